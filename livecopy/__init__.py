@@ -1,0 +1,1 @@
+"""Livecopy: one live copy of an immutable row of cells, requested in many versions."""

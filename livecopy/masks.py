@@ -1,0 +1,35 @@
+"""Sets of patches as integers: bit n of a mask stands for patch n.
+
+Callers of the package pass tuples; inside it a set is one integer, so that sets are compared,
+joined and cut in a single step, and are never iterated in an uncertain order.
+"""
+
+
+def bit_of(number):
+    """Return the mask of one patch. The number must be known: a huge one would not fit into memory."""
+    return 1 << number
+
+
+def has(mask, number):
+    """Return True if the mask contains the patch."""
+    return mask >> number & 1 == 1
+
+
+def least_of(mask):
+    """Return the least number in a mask that is not empty."""
+    return (mask & -mask).bit_length() - 1
+
+
+def greatest_of(mask):
+    """Return the greatest number in a mask that is not empty."""
+    return mask.bit_length() - 1
+
+
+def numbers_of(mask):
+    """Return the numbers in a mask as an ascending tuple."""
+    numbers = []
+    while mask:
+        lowest = mask & -mask
+        numbers.append(lowest.bit_length() - 1)
+        mask = mask ^ lowest
+    return tuple(numbers)

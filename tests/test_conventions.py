@@ -1,0 +1,72 @@
+"""Points 2 and 3: what holds for all functions."""
+
+import unittest
+
+from livecopy.book import Book
+from livecopy.errors import BadCell, NotAVersion, UnknownPatch
+from livecopy.plain import row_of, value_at, writers
+from livecopy.trees import independent_pair
+from livecopy.versions import all_versions, clamp, join, meet, median, version_of, without
+from tests.support import chain_book, refused, snapshot
+
+
+class ConventionsTest(unittest.TestCase):
+
+    def test_the_first_wrong_argument_is_reported(self):
+        book = chain_book()
+        before = snapshot(book)
+        refused(self, NotAVersion, ((2,),), join, book, (2,), (1, 3))
+        refused(self, NotAVersion, ((1, 3),), meet, book, (), (1, 3))
+        refused(self, NotAVersion, ((2,),), without, book, (2,), (9,))
+        refused(self, UnknownPatch, (9,), without, book, (1,), (1, 9, 0))
+        refused(self, NotAVersion, ((2,),), median, book, (1,), (2,), (3, 1))
+        refused(self, NotAVersion, ((3, 1),), clamp, book, (1,), (), (3, 1))
+        refused(self, UnknownPatch, (0,), version_of, book, (1, 3, 0, 9))
+        refused(self, NotAVersion, ((2,),), writers, book, (2,), 3)
+        refused(self, BadCell, (3,), value_at, book, (1,), 3)
+        self.assertEqual(snapshot(book), before)
+
+    def test_queries_change_nothing(self):
+        book = chain_book()
+        before = snapshot(book)
+        all_versions(book)
+        independent_pair(book)
+        version_of(book, (2, 4))
+        row_of(book, (1, 2, 4)).reverse()
+        without(book, (1, 2), (1,))
+        self.assertEqual(snapshot(book), before)
+
+    def test_a_later_patch_counts_at_once(self):
+        book = chain_book()
+        refused(self, NotAVersion, ((5,),), row_of, book, (5,))
+        book.make_patch([(1, 25)])
+        self.assertEqual(row_of(book, (5,)), [10, 25, 30])
+        self.assertEqual(without(book, (4, 5), (4,)), (5,))
+        self.assertEqual(book.conflicting(2), (3, 5))
+        self.assertEqual(len(all_versions(book)), 14)
+
+    def test_books_do_not_share_anything(self):
+        base = [1, 2]
+        writes = [(0, 5)]
+        first, second = Book(base), Book(base)
+        first.make_patch(writes)
+        second.make_patch(writes)
+        second.make_patch([(0, 6)], requires=(1,))
+        self.assertEqual((len(first), len(second), first.conflicting(1), first.base_row()), (1, 2, (), [1, 2]))
+
+    def test_a_book_at_the_limits(self):
+        value = 10 ** 60 - 1
+        book = Book([value] * 400)
+        for number in range(1, 201):
+            book.make_patch([(cell, -value + number) for cell in range(400)],
+                            requires=tuple(range(1, number)), size=10 ** 12)
+        version = tuple(range(1, 201))
+        self.assertEqual(row_of(book, version), [-value + 200] * 400)
+        self.assertEqual(writers(book, version, 399), version)
+        self.assertEqual(version_of(book, (200,)), version)
+        self.assertIsNone(independent_pair(book))
+        self.assertEqual(row_of(book, ()), [value] * 400)
+
+
+if __name__ == "__main__":
+    unittest.main()

@@ -1,0 +1,56 @@
+"""The interface: names, arguments, and where they are defined."""
+
+import importlib
+import inspect
+import unittest
+
+MODULES = {
+    "book": {
+        "Book": {
+            "__init__": "(self, base)",
+            "make_patch": "(self, writes, *, requires=(), conflicts=(), size=0)",
+            "base_row": "(self)", "writes_of": "(self, number)", "size_of": "(self, number)",
+            "required": "(self, number)", "conflicting": "(self, number)",
+            "relation": "(self, first, second)",
+            "__len__": "(self)", "__iter__": "(self)", "__contains__": "(self, version)",
+        },
+    },
+    "versions": {
+        "version_of": "(book, patches)", "join": "(book, first, second)", "meet": "(book, first, second)",
+        "without": "(book, version, patches)", "median": "(book, first, second, third)",
+        "clamp": "(book, low, high, version)", "difference": "(first, second)",
+        "all_versions": "(book, limit=64)",
+    },
+    "trees": {
+        "independent_pair": "(book)", "tree_versions": "(book)", "tree_parent": "(book, number)",
+    },
+    "plain": {
+        "writers": "(book, version, cell)", "value_at": "(book, version, cell)", "row_of": "(book, version)",
+    },
+}
+
+
+class InterfaceTest(unittest.TestCase):
+
+    def check_function(self, function, signature, module):
+        self.assertTrue(inspect.isfunction(function))
+        self.assertEqual(str(inspect.signature(function)), signature)
+        self.assertEqual(function.__module__, module)
+
+    def test_names_and_arguments(self):
+        for name, listed in MODULES.items():
+            module = importlib.import_module(f"livecopy.{name}")
+            for entry, form in listed.items():
+                with self.subTest(module=name, entry=entry):
+                    found = getattr(module, entry)
+                    if isinstance(form, str):
+                        self.check_function(found, form, module.__name__)
+                        continue
+                    self.assertTrue(inspect.isclass(found))
+                    self.assertEqual(found.__module__, module.__name__)
+                    for method, signature in form.items():
+                        self.check_function(vars(found)[method], signature, module.__name__)
+
+
+if __name__ == "__main__":
+    unittest.main()

@@ -1,0 +1,121 @@
+"""The rules of the language that can be seen in the files of the package."""
+
+import ast
+import builtins
+import pathlib
+import unittest
+import warnings
+
+PACKAGE = pathlib.Path(__file__).resolve().parent.parent / "livecopy"
+
+BUILTINS = """len range enumerate zip min max sum abs sorted reversed int str bool list tuple dict set
+isinstance ord repr any all divmod iter next Exception ValueError TypeError KeyError IndexError LookupError
+ZeroDivisionError ArithmeticError OverflowError RuntimeError NotImplementedError NotImplemented""".split()
+
+LIBRARY = {"heapq": ["heappush", "heappop", "heapify"], "math": ["gcd", "lcm", "isqrt"]}
+
+BARRED_NODES = (
+    ast.Global, ast.AsyncFunctionDef, ast.AsyncFor, ast.AsyncWith, ast.Await, ast.Import, ast.Div, ast.MatMult,
+    ast.TryStar,
+)
+
+BARRED_WORDS = """typing typing_extensions Enum IntEnum StrEnum Flag IntFlag Generic Protocol ABC ABCMeta
+namedtuple NamedTuple TypedDict TYPE_CHECKING abstractmethod register mro elements open input law Meta""".split()
+
+MODULE_LEVEL = (ast.Expr, ast.ImportFrom, ast.FunctionDef, ast.ClassDef, ast.Assign)
+
+
+def sources():
+    return {path: path.read_text("utf-8") for path in sorted(PACKAGE.rglob("*.py"))}
+
+
+def nodes_of(kind):
+    for path, text in sources().items():
+        for node in ast.walk(ast.parse(text)):
+            if isinstance(node, kind):
+                yield path, node
+
+
+class LanguageTest(unittest.TestCase):
+
+    def fail_at(self, path, node, why):
+        self.fail(f"{path.name}:{node.lineno}: {why}")
+
+    def test_the_folder_contains_nothing_else(self):
+        others = [path.name for path in PACKAGE.rglob("*") if path.suffix != ".py" and "__pycache__" not in path.parts]
+        self.assertEqual(others, [])
+
+    def test_sizes_and_characters(self):
+        for path, text in sources().items():
+            lines = text.split("\n")
+            self.assertLessEqual(len(lines), 400, path.name)
+            self.assertLessEqual(max(len(line) for line in lines), 120, path.name)
+            self.assertTrue(all(mark == "\n" or " " <= mark <= "~" for mark in text), path.name)
+        for path, node in nodes_of(ast.FunctionDef):
+            if node.end_lineno - node.lineno + 1 > 40:
+                self.fail_at(path, node, "more than 40 lines")
+
+    def test_no_warnings(self):
+        with warnings.catch_warnings():
+            warnings.simplefilter("error")
+            for path, text in sources().items():
+                compile(text, path.name, "exec")
+
+    def test_imports(self):
+        for path, node in nodes_of(ast.ImportFrom):
+            names = [alias.name for alias in node.names]
+            if node.module in LIBRARY:
+                self.assertLessEqual(set(names), set(LIBRARY[node.module]), path.name)
+                continue
+            self.assertTrue(node.level == 0 and node.module.startswith("livecopy."), path.name)
+            defined = ast.parse((PACKAGE / f"{node.module.split('.')[1]}.py").read_text("utf-8")).body
+            known = {part.name for part in defined if isinstance(part, (ast.FunctionDef, ast.ClassDef))}
+            self.assertLessEqual(set(names), known, path.name)
+
+    def test_module_level(self):
+        for path, text in sources().items():
+            for node in ast.parse(text).body:
+                if not isinstance(node, MODULE_LEVEL):
+                    self.fail_at(path, node, "not at module level")
+
+    def test_statements_and_operators(self):
+        for path, node in nodes_of(BARRED_NODES):
+            self.fail(f"{path.name}: {node.__class__.__name__}")
+        for path, node in nodes_of((ast.FunctionDef, ast.ClassDef)):
+            for decorator in node.decorator_list:
+                if getattr(decorator, "id", None) not in ("staticmethod", "classmethod", "property"):
+                    self.fail_at(path, node, "decorator")
+
+    def test_constants(self):
+        for path, node in nodes_of(ast.Constant):
+            if isinstance(node.value, float):
+                self.fail_at(path, node, "a float")
+            if isinstance(node.value, str) and "%" in node.value:
+                self.fail_at(path, node, "a barred character")
+
+    def test_builtins(self):
+        barred = set(dir(builtins)) - set(BUILTINS)
+        for path, node in nodes_of(ast.Name):
+            if node.id in barred and not isinstance(node.ctx, ast.Load):
+                self.fail_at(path, node, f"{node.id} is a builtin")
+            if node.id in barred and node.id not in ("staticmethod", "classmethod", "property", "super"):
+                self.fail_at(path, node, f"{node.id} is not allowed")
+        for path, node in nodes_of(ast.arg):
+            if node.arg in dir(builtins):
+                self.fail_at(path, node, f"{node.arg} is a builtin")
+
+    def test_words(self):
+        for path, node in nodes_of((ast.Name, ast.Attribute, ast.FunctionDef, ast.arg)):
+            name = next(getattr(node, key) for key in ("id", "attr", "name", "arg") if hasattr(node, key))
+            if name in BARRED_WORDS:
+                self.fail_at(path, node, f"{name} is barred")
+
+    def test_identity(self):
+        for path, node in nodes_of(ast.Compare):
+            for operator, side in zip(node.ops, node.comparators):
+                if isinstance(operator, (ast.Is, ast.IsNot)) and not isinstance(side, ast.Constant):
+                    self.fail_at(path, node, "identity of something other than None, True and False")
+
+
+if __name__ == "__main__":
+    unittest.main()
