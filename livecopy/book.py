@@ -7,12 +7,12 @@ from livecopy.masks import bit_of, has, least_of, numbers_of
 class Patch:
     """What a book keeps of one patch; its sets of other patches are masks."""
 
-    def __init__(self, writes, size, needs):
+    def __init__(self, writes, size, needs, foes):
         self.writes = writes
         self.size = size
         self.needs = needs
         # Later patches are added to these two: they may conflict with this one, or require it.
-        self.foes = 0
+        self.foes = foes
         self.users = 0
 
 
@@ -51,7 +51,7 @@ class Book:
             raise BadSize(size)
         foes = foes | self._following_foes(kept, needs)
         self._refuse_clash(needs, foes)
-        return self._add(Patch(kept, size or len(kept), needs), foes)
+        return self._add(Patch(kept, size or len(kept), needs, foes))
 
     def _checked_writes(self, writes):
         """Return the writes as a dict from cell to value, by ascending cell."""
@@ -93,10 +93,9 @@ class Book:
             if clashing:
                 raise Conflict(number, least_of(clashing))
 
-    def _add(self, patch, foes):
+    def _add(self, patch):
         number = len(self._patches) + 1
-        patch.foes = foes
-        for other in numbers_of(foes):
+        for other in numbers_of(patch.foes):
             rival = self.patch(other)
             rival.foes = rival.foes | bit_of(number)
         for other in numbers_of(patch.needs):

@@ -33,3 +33,13 @@ def numbers_of(mask):
         numbers.append(lowest.bit_length() - 1)
         mask = mask ^ lowest
     return tuple(numbers)
+
+
+def toggle_order(start, goal):
+    """Return the patches to toggle on the way from one version to another.
+
+    The patches that leave come first, in descending order, so that each one goes behind those that
+    require it. The patches that enter follow in ascending order, each one behind what it requires.
+    """
+    leaving = numbers_of(start & ~goal)
+    return list(leaving[::-1]) + list(numbers_of(goal & ~start))

@@ -4,7 +4,9 @@ import unittest
 
 from livecopy.book import Book
 from livecopy.errors import BadCell, NotAVersion, UnknownPatch
+from livecopy.live import LiveCopy
 from livecopy.plain import row_of, value_at, writers
+from livecopy.requests import plan_cost
 from livecopy.trees import independent_pair
 from livecopy.versions import all_versions, clamp, join, meet, median, version_of, without
 from tests.support import chain_book, refused, snapshot
@@ -66,6 +68,13 @@ class ConventionsTest(unittest.TestCase):
         self.assertEqual(version_of(book, (200,)), version)
         self.assertIsNone(independent_pair(book))
         self.assertEqual(row_of(book, ()), [value] * 400)
+        copy = LiveCopy(book)
+        self.assertEqual(copy.lead(version), list(version))
+        self.assertEqual(copy.read_row(version[:7]), [-value + 7] * 400)
+        self.assertEqual(copy.toggle_all([200, 199, 199] + [200] * 397),
+                         [False, False, True] + [True, False] * 198 + [True])
+        requests = [(version[:place], 10 ** 30) for place in range(200)] * 2
+        self.assertEqual(plan_cost(book, (), requests, [()] * 400, look=10 ** 12), 2 * 199 * 100 * 10 ** 54)
 
 
 if __name__ == "__main__":

@@ -27,6 +27,32 @@ MODULES = {
     "plain": {
         "writers": "(book, version, cell)", "value_at": "(book, version, cell)", "row_of": "(book, version)",
     },
+    "live": {
+        "LiveCopy": {
+            "__init__": "(self, book, home=())",
+            "toggle": "(self, number)", "lead": "(self, version)", "toggle_all": "(self, numbers)",
+            "retrace": "(self, numbers)", "read": "(self, version, cell)", "read_row": "(self, version)",
+            "read_many": "(self, version, cells)", "saved": "(self, number)", "hold": "(self)",
+            "release": "(self)", "__len__": "(self)", "__iter__": "(self)", "__getitem__": "(self, at)",
+        },
+        "Pin": {"__init__": "(self, copy)", "__enter__": "(self)", "__exit__": "(self, kind, value, trace)"},
+    },
+    "ways": {
+        "steps": "(book, start, goal)", "way": "(book, start, goal)", "is_way": "(book, versions)",
+        "between": "(book, first, second, version)",
+    },
+    "subbook": {
+        "sub_book": "(book, patches)", "translate": "(numbers, version)", "renumber": "(book, order)",
+    },
+    "collect": {
+        "living_range": "(book, living)", "collect": "(book, living)", "collect_copy": "(copy, living)",
+    },
+    "requests": {
+        "plan_cost": "(book, home, requests, plan, *, look=1, toggle=1)",
+        "cost_parts": "(book, home, requests, plan)",
+        "votes": "(book, requests, number, *, look=1)",
+        "gather": "(requests)", "spell_out": "(requests, limit=400)",
+    },
 }
 
 
@@ -50,6 +76,9 @@ class InterfaceTest(unittest.TestCase):
                     self.assertEqual(found.__module__, module.__name__)
                     for method, signature in form.items():
                         self.check_function(vars(found)[method], signature, module.__name__)
+
+    def test_steps_is_a_generator(self):
+        self.assertTrue(inspect.isgeneratorfunction(importlib.import_module("livecopy.ways").steps))
 
 
 if __name__ == "__main__":
