@@ -101,7 +101,7 @@ class Book:
         for other in numbers_of(patch.needs):
             needed = self.patch(other)
             needed.users = needed.users | bit_of(number)
-        for cell in patch.writes:
+        for cell in list(patch.writes):
             self._writers[cell] = self._writers[cell] | bit_of(number)
         self._patches.append(patch)
         self._numbers = (*self._numbers, number)

@@ -126,7 +126,7 @@ class LiveCopy:
         for number in numbers:
             kept = self._kept(number)
             self._saved[number] = {cell: self._row[cell] for cell in kept}
-            for cell, value in kept.items():
+            for cell, value in list(kept.items()):
                 self._row[cell] = value
             self._mask = self._mask ^ bit_of(number)
         self.home = numbers_of(self._mask)

@@ -22,6 +22,6 @@ def row_of(book, version):
     book.version_mask(version)
     row = book.base_row()
     for number in version:
-        for cell, value in book.patch(number).writes.items():
+        for cell, value in book.writes_of(number):
             row[cell] = value
     return row

@@ -22,6 +22,11 @@ BARRED_NODES = (
 BARRED_WORDS = """typing typing_extensions Enum IntEnum StrEnum Flag IntFlag Generic Protocol ABC ABCMeta
 namedtuple NamedTuple TypedDict TYPE_CHECKING abstractmethod register mro elements open input law Meta""".split()
 
+CHANGING = """append clear extend insert pop remove reverse setdefault update add discard sort""".split()
+
+# Calls whose result is made for the one who calls.
+NEW = """list tuple dict sorted range numbers_of toggle_order""".split()
+
 MODULE_LEVEL = (ast.Expr, ast.ImportFrom, ast.FunctionDef, ast.ClassDef, ast.Assign)
 
 
@@ -34,6 +39,46 @@ def nodes_of(kind):
         for node in ast.walk(ast.parse(text)):
             if isinstance(node, kind):
                 yield path, node
+
+
+def changed_in(loop):
+    """What the rows of a loop change: lists and dicts whose items are set or deleted, or that a method changes."""
+    for node in (node for row in loop.body for node in ast.walk(row)):
+        if isinstance(node, ast.Subscript) and not isinstance(node.ctx, ast.Load):
+            yield node.value
+        if isinstance(node, ast.Call) and isinstance(node.func, ast.Attribute) and node.func.attr in CHANGING:
+            yield node.func.value
+
+
+def walked_by(loop):
+    """What a loop goes over, without the views and pairs around it."""
+    waiting = [loop.iter]
+    while waiting:
+        node = waiting.pop()
+        if isinstance(node, ast.Call) and isinstance(node.func, ast.Attribute) and not node.args:
+            if node.func.attr in ("items", "keys", "values"):
+                waiting.append(node.func.value)
+                continue
+        if isinstance(node, ast.Call) and getattr(node.func, "id", None) in ("enumerate", "zip", "reversed"):
+            waiting += node.args
+            continue
+        if isinstance(node, ast.IfExp):
+            waiting += [node.body, node.orelse]
+            continue
+        yield node
+
+
+def is_new(node, function):
+    """Return True if the value was made in this function, so that nothing else is the same object."""
+    if isinstance(node, ast.Name):
+        given = [row.value for row in ast.walk(function) if isinstance(row, ast.Assign)
+                 for target in row.targets if isinstance(target, ast.Name) and target.id == node.id]
+        return len(given) > 0 and all(not isinstance(value, ast.Name) and is_new(value, function) for value in given)
+    if isinstance(node, ast.BinOp):
+        return isinstance(node.left, ast.List) or isinstance(node.right, ast.List)
+    if isinstance(node, ast.Call):
+        return getattr(node.func, "id", None) in NEW
+    return isinstance(node, (ast.List, ast.Tuple, ast.Dict, ast.ListComp, ast.DictComp))
 
 
 class LanguageTest(unittest.TestCase):
@@ -115,6 +160,23 @@ class LanguageTest(unittest.TestCase):
             for operator, side in zip(node.ops, node.comparators):
                 if isinstance(operator, (ast.Is, ast.IsNot)) and not isinstance(side, ast.Constant):
                     self.fail_at(path, node, "identity of something other than None, True and False")
+
+    def test_what_a_loop_goes_over_is_not_changed_in_it(self):
+        for path, function in nodes_of(ast.FunctionDef):
+            parameters = [arg.arg for arg in function.args.args]
+            for loop in ast.walk(function):
+                if isinstance(loop, ast.For):
+                    self.check_loop(path, function, loop, parameters)
+
+    def check_loop(self, path, function, loop, parameters):
+        for walked in walked_by(loop):
+            for changed in changed_in(loop):
+                if ast.dump(walked) == ast.dump(changed):
+                    self.fail_at(path, loop, "the loop changes what it goes over")
+                # A parameter is the caller's own; a field, or what came out of one, may be a second name.
+                apart = is_new(walked, function) or is_new(changed, function)
+                if not apart and getattr(walked, "id", None) not in parameters and isinstance(changed, ast.Attribute):
+                    self.fail_at(path, loop, "the loop may change what it goes over")
 
 
 if __name__ == "__main__":
