@@ -147,21 +147,34 @@ class Book:
             raise UnknownPatch(number)
         return self._patches[number - 1]
 
+    def later_relatives(self, number):
+        """Return the ascending tuple of the later patches that are related to the patch."""
+        patch = self.patch(number)
+        related = patch.foes | patch.users
+        return numbers_of(related >> number << number)
+
     def writer_mask(self, cell):
         """Return the mask of all patches that write a cell."""
         if not 0 <= cell < self.cells:
             raise BadCell(cell)
         return self._writers[cell]
 
-    def find_mask(self, version):
-        """Return the mask of a version, or None for a tuple that is not a version."""
+    def find_set(self, numbers):
+        """Return the mask of a strictly ascending tuple of patches, or None for another tuple."""
         mask = 0
         last = 0
-        for number in version:
+        for number in numbers:
             if number <= last or number > len(self._patches):
                 return None
             mask = mask | bit_of(number)
             last = number
+        return mask
+
+    def find_mask(self, version):
+        """Return the mask of a version, or None for a tuple that is not a version."""
+        mask = self.find_set(version)
+        if mask is None:
+            return None
         for number in version:
             patch = self._patches[number - 1]
             if patch.needs & ~mask or patch.foes & mask:

@@ -43,3 +43,13 @@ def toggle_order(start, goal):
     """
     leaving = numbers_of(start & ~goal)
     return list(leaving[::-1]) + list(numbers_of(goal & ~start))
+
+
+def full_mask(many):
+    """Return the mask of the patches from 1 to this number."""
+    return (1 << (many + 1)) - 2
+
+
+def versions_of(rows, length):
+    """Return the tuples of the patches that are on at each place; row k is that of patch k + 1."""
+    return [tuple([number for number, row in enumerate(rows, start=1) if row[place]]) for place in range(length)]

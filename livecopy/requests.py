@@ -1,40 +1,30 @@
 """Requests, prices and plans, and what a plan costs."""
 
+from livecopy.counters import least_row
 from livecopy.errors import BadPlan, BadPrice, BadRequest, TooMany
-from livecopy.masks import has, numbers_of
+from livecopy.masks import bit_of, full_mask, has, numbers_of, versions_of
 
 
 def plan_cost(book, home, requests, plan, *, look=1, toggle=1):
     """Return the cost of a plan."""
     parts = cost_parts(book, home, requests, plan)
     check_look(look)
-    prices = toggle_prices(book, toggle)
-    costs = [toggles * price + looks * look for (toggles, looks), price in zip(parts, prices)]
-    return sum([book.size_of(number) * costs[number - 1] for number in book])
+    return parts_cost(book, parts, look, toggle_prices(book, toggle))
 
 
 def cost_parts(book, home, requests, plan):
     """Return for each patch how often the plan toggles it, and how many looks go past it."""
     place = book.version_mask(home)
-    asked = request_masks(book, requests)
-    homes = plan_masks(book, plan, len(requests))
-    toggles = [0] * len(book)
-    looks = [0] * len(book)
-    for (_, count), wanted, stand in zip(requests, asked, homes):
-        for number in numbers_of(place ^ stand):
-            toggles[number - 1] += 1
-        for number in numbers_of(wanted ^ stand):
-            looks[number - 1] += count
-        place = stand
-    return list(zip(toggles, looks))
+    asks = request_asks(book, requests)
+    return ask_parts(book, place, asks, plan_masks(book, plan, len(requests)))
 
 
 def votes(book, requests, number, *, look=1):
     """Return for each request what it pays if the patch is off, or the negative if it pays for it being on."""
-    asked = request_masks(book, requests)
+    asks = request_asks(book, requests)
     book.patch(number)
     check_look(look)
-    return [look * count if has(mask, number) else -look * count for (_, count), mask in zip(requests, asked)]
+    return ask_votes(asks, number, look)
 
 
 def gather(requests):
@@ -59,15 +49,60 @@ def spell_out(requests, limit=400):
     return single
 
 
-def request_masks(book, requests):
-    """Return the masks of the requested versions."""
-    masks = []
+def request_asks(book, requests):
+    """Return the requests as asks.
+
+    An ask is a triple (wanted, unwanted, count) of two masks and a number: it looks `count` times
+    past each wanted patch that is off and each unwanted patch that is on. A request wants or
+    rejects every patch; a wish or an event leaves some patches open.
+    """
+    everything = full_mask(len(book))
+    asks = []
     for index, (version, count) in enumerate(requests):
         mask = book.find_mask(version)
         if mask is None or count < 1:
             raise BadRequest(index)
-        masks.append(mask)
-    return masks
+        asks.append((mask, everything ^ mask, count))
+    return asks
+
+
+def ask_votes(asks, number, look):
+    """Return the votes of the asks for one patch."""
+    bit = bit_of(number)
+    return [
+        look * count if wanted & bit else -look * count if unwanted & bit else 0
+        for wanted, unwanted, count in asks]
+
+
+def ask_parts(book, place, asks, homes):
+    """Return for each patch how often it is toggled from place through the homes, and how many looks go past it."""
+    toggles = [0] * len(book)
+    looks = [0] * len(book)
+    for (wanted, unwanted, count), stand in zip(asks, homes):
+        for number in numbers_of(place ^ stand):
+            toggles[number - 1] += 1
+        for number in numbers_of((wanted & ~stand) | (unwanted & stand)):
+            looks[number - 1] += count
+        place = stand
+    return list(zip(toggles, looks))
+
+
+def parts_cost(book, parts, look, prices):
+    """Return what the toggles and looks of all patches cost together."""
+    costs = [toggles * price + looks * look for (toggles, looks), price in zip(parts, prices)]
+    return sum([book.size_of(number) * cost for number, cost in zip(book, costs)])
+
+
+def size_in(book, mask):
+    """Return the sum of the sizes of the patches in a mask."""
+    return sum([book.size_of(number) for number in numbers_of(mask)])
+
+
+def least_plan(book, place, asks, look, prices):
+    """Return the plan in which each patch follows its least row."""
+    rows = [
+        least_row(has(place, number), ask_votes(asks, number, look), price) for number, price in zip(book, prices)]
+    return versions_of(rows, len(asks))
 
 
 def plan_masks(book, plan, length):
@@ -89,19 +124,19 @@ def check_look(look):
         raise BadPrice(look)
 
 
-def check_toggle(price):
-    """Refuse a toggle price that is negative."""
-    if price < 0:
+def check_toggle(price, least=0):
+    """Refuse a toggle price that is too small."""
+    if price < least:
         raise BadPrice(price)
 
 
-def toggle_prices(book, toggle):
+def toggle_prices(book, toggle, least=0):
     """Return the list of the toggle prices of all patches, for one price or a list of prices."""
     if isinstance(toggle, int):
-        check_toggle(toggle)
+        check_toggle(toggle, least)
         return [toggle] * len(book)
     if len(toggle) != len(book):
         raise BadPrice(len(toggle))
     for price in toggle:
-        check_toggle(price)
+        check_toggle(price, least)
     return list(toggle)

@@ -186,3 +186,49 @@ def wide_book(patches=60):
     for cell in range(patches):
         book.make_patch([(cell, cell + 1)])
     return book
+
+
+def example_book():
+    """The book of point 78: three patches for one cell, of which 2 requires 1 and 3 conflicts with both."""
+    book = Book([0])
+    book.make_patch([(0, 1)])
+    book.make_patch([(0, 2)], requires=(1,))
+    book.make_patch([(0, 3)])
+    return book
+
+
+EXAMPLE_REQUESTS = (((1, 2), 3), ((3,), 1), ((1, 2), 1))
+
+
+def random_case(case, seed, most=6, attempts=6):
+    """Return a random book, all its versions, a home, a list of requests, and the source of further choices."""
+    source = random.Random(seed)
+    book, model = random_book(case, seed, attempts=attempts)
+    versions = model.versions()
+    requests = [(source.choice(versions), source.randrange(1, 6)) for _ in range(source.randrange(most + 1))]
+    return book, versions, source.choice(versions), requests, source
+
+
+def least_cost(versions, home, asks, move, serve):
+    """The least cost of all plans; move(place, entry) is paid ahead of an ask, and serve(ask, entry) at it."""
+    costs = {home: 0}
+    for ask in asks:
+        costs = {
+            entry: min(cost + move(place, entry) for place, cost in costs.items()) + serve(ask, entry)
+            for entry in versions}
+    return min(costs.values())
+
+
+def toggling(book, prices):
+    """What a move costs if each patch has one price for both ways."""
+    return lambda place, entry: sum(prices[n - 1] * book.size_of(n) for n in set(place) ^ set(entry))
+
+
+def looking(book, look):
+    """What a request costs."""
+    return lambda ask, entry: look * ask[1] * sum(book.size_of(n) for n in set(ask[0]) ^ set(entry))
+
+
+def all_rows(length):
+    """All rows of this length."""
+    return [list(row) for row in itertools.product((False, True), repeat=length)]

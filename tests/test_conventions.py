@@ -6,9 +6,12 @@ from livecopy.book import Book
 from livecopy.errors import BadCell, NotAVersion, UnknownPatch
 from livecopy.live import LiveCopy
 from livecopy.plain import row_of, value_at, writers
+from livecopy.plans import best_plan, clash_requests, middle_plan, patch_bound, two_price_plan
 from livecopy.requests import plan_cost
+from livecopy.tables import price_table
 from livecopy.trees import independent_pair
 from livecopy.versions import all_versions, clamp, join, meet, median, version_of, without
+from livecopy.wishes import best_wish_plan
 from tests.support import chain_book, refused, snapshot
 
 
@@ -46,6 +49,28 @@ class ConventionsTest(unittest.TestCase):
         self.assertEqual(without(book, (4, 5), (4,)), (5,))
         self.assertEqual(book.conflicting(2), (3, 5))
         self.assertEqual(len(all_versions(book)), 14)
+
+    def test_plans_change_nothing(self):
+        book = chain_book()
+        before = snapshot(book)
+        requests = [((1, 2), 3), ((3,), 1)]
+        best_plan(book, (4,), requests, look=4, toggle=[3, 4, 3, 9]).reverse()
+        middle_plan(book, (4,), requests, toggle=[3, 4, 3, 9]).clear()
+        clash_requests(book, 1, 2, toggle=[3, 4, 3, 9])[1].clear()
+        two_price_plan(book, (4,), requests, on=2).clear()
+        price_table(book, (4,), requests).clear()
+        best_wish_plan(book, (4,), [((1, 2), (3,), 1)]).clear()
+        self.assertEqual((snapshot(book), requests), (before, [((1, 2), 3), ((3,), 1)]))
+        self.assertEqual(clash_requests(book, 1, 2, toggle=[3, 4, 3, 9])[1], [((1, 2), 8), ((), 7), ((1, 2), 8)])
+
+    def test_more_patches_and_requests_than_the_limits(self):
+        book = Book([0] * 400)
+        for number in range(1, 1201):
+            book.make_patch([(number % 400, number)], requires=(number - 400,) if number > 400 else ())
+        version = tuple(range(1, 1201))
+        requests = [(version[:place], 1) for place in range(1200)]
+        plan = best_plan(book, (), requests, toggle=2)
+        self.assertEqual(plan_cost(book, (), requests, plan, toggle=2), patch_bound(book, (), requests, toggle=2))
 
     def test_books_do_not_share_anything(self):
         base = [1, 2]

@@ -53,6 +53,32 @@ MODULES = {
         "votes": "(book, requests, number, *, look=1)",
         "gather": "(requests)", "spell_out": "(requests, limit=400)",
     },
+    "counters": {
+        "row_cost": "(start, votes, toggle, row)", "forward": "(start, votes, toggle)",
+        "backward": "(votes, toggle, *, last=0)", "solo_cost": "(start, votes, toggle)",
+        "least_row": "(start, votes, toggle)", "greatest_row": "(start, votes, toggle)",
+        "end_costs": "(start, votes, toggle)",
+    },
+    "wishes": {
+        "close_wish": "(book, wanted, unwanted)", "wish_of": "(book, version, count)",
+        "wish_cost": "(book, home, wishes, plan, *, look=1, toggle=1)",
+        "best_wish_plan": "(book, home, wishes, *, look=1, toggle=1)",
+    },
+    "tables": {
+        "stretch_plan": "(book, home, requests, stretch)", "price_table": "(book, home, requests)",
+        "table_cost": "(table, *, look=1, toggle=1)",
+    },
+    "pricing": {
+        "stretches": "(look, toggle)", "price_clash": "(book, *, look=1, toggle=1)",
+    },
+    "plans": {
+        "patch_bound": "(book, home, requests, *, look=1, toggle=1)",
+        "best_plan": "(book, home, requests, *, look=1, toggle=1)",
+        "clash_requests": "(book, first, second, *, look=1, toggle=1)",
+        "middle_plan": "(book, home, requests, *, look=1, toggle=1)",
+        "two_price_cost": "(book, home, requests, plan, *, look=1, on=1, off=1)",
+        "two_price_plan": "(book, home, requests, *, look=1, on=1, off=1)",
+    },
 }
 
 
