@@ -14,7 +14,7 @@ from livecopy.pricing import price_clash
 from livecopy.requests import plan_cost, votes
 from livecopy.counters import solo_cost
 from livecopy.tables import stretch_plan
-from livecopy.versions import version_of
+from livecopy.versions import all_versions, version_of
 from tests.support import (
     EXAMPLE_REQUESTS, NO_VERSIONS, chain_book, example_book, least_cost, looking, random_book, random_case, refused,
     same_arguments, snapshot, toggling, wide_book)
@@ -169,19 +169,42 @@ class BestPlanTest(PlanCase):
             self.assertEqual(best_plan(other, home, requests, look=look, toggle=prices), plan)
         self.assertGreater(found, 300)
 
+    def check_choices(self, book, prices):
+        """Try requests for a list that fits, with the look price 4: the price 4 lies in the stretches 1 and 2."""
+        versions = all_versions(book)
+        source = random.Random(42)
+        for _ in range(150):
+            requests = [(source.choice(versions), source.randrange(1, 5)) for _ in range(6)]
+            home = source.choice(versions)
+            plan = best_plan(book, home, requests, look=4, toggle=prices)
+            self.assertEqual([entry for entry in plan if entry not in book], [])
+            self.assertEqual(plan_cost(book, home, requests, plan, look=4, toggle=prices),
+                             patch_bound(book, home, requests, look=4, toggle=prices))
+
     def test_each_way_to_choose_a_row(self):
-        # Patch 2 requires 1. The doubled price 8 lies in the stretches 1 and 2 of the look price 4.
         book = Book([0])
         book.make_patch([(0, 1)])
         book.make_patch([(0, 2)], requires=(1,))
-        source = random.Random(42)
-        for prices in ([4, 3], [4, 5], [3, 4], [5, 4], [4, 4], [4, 6], [6, 4], [2, 4], [4, 2]):
-            for _ in range(120):
-                requests = [(source.choice(((), (1,), (1, 2))), source.randrange(1, 4)) for _ in range(6)]
-                plan = best_plan(book, (), requests, look=4, toggle=prices)
-                self.assertEqual([entry for entry in plan if entry not in book], [])
-                self.assertEqual(plan_cost(book, (), requests, plan, look=4, toggle=prices),
-                                 patch_bound(book, (), requests, look=4, toggle=prices))
+        for prices in ([4, 3], [4, 5], [3, 4], [5, 4], [4, 6], [6, 4], [2, 4], [4, 2]):
+            self.check_choices(book, prices)
+
+    def test_a_patch_between_two_stretches(self):
+        book = wide_book(3)
+        book.make_patch([(0, 9)], requires=(1, 2, 3))
+        self.check_choices(book, [3, 5, 4, 4])
+        self.check_choices(book, [4, 5, 3, 4])
+        book = Book([0, 0])
+        book.make_patch([(0, 1), (1, 1)])
+        book.make_patch([(0, 2)], requires=(1,))
+        book.make_patch([(1, 2)], requires=(1,))
+        self.check_choices(book, [4, 3, 5])
+        self.check_choices(book, [4, 5, 3])
+        self.check_choices(book, [4, 4, 5])
+        book = wide_book(2)
+        book.make_patch([(0, 2), (1, 2)])
+        self.check_choices(book, [3, 5, 4])
+        self.check_choices(book, [5, 3, 4])
+        self.check_choices(book, [4, 3, 4])
 
     def test_prices_that_do_not_fit(self):
         book = chain_book()
