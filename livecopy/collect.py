@@ -9,13 +9,13 @@ from livecopy.subbook import rebuilt, translate
 
 def living_range(book, living):
     """Return the patches that all living versions contain, and those that at least one contains."""
-    common, some = _living_masks(book, living)
+    common, some = mask_range(living_masks(book, living))
     return numbers_of(common), numbers_of(some)
 
 
 def collect(book, living):
     """Return a new book of what the living versions need, and the dict from old to new numbers."""
-    common, some = _living_masks(book, living)
+    common, some = mask_range(living_masks(book, living))
     base = row_of(book, numbers_of(common))
     return rebuilt(book, numbers_of(some & ~common), base)
 
@@ -26,10 +26,15 @@ def collect_copy(copy, living):
     return LiveCopy(book, translate(numbers, copy.home)), numbers
 
 
-def _living_masks(book, living):
+def living_masks(book, living):
+    """Return the masks of the living versions."""
     if len(living) == 0:
         raise NoVersions()
-    masks = [book.version_mask(version) for version in living]
+    return [book.version_mask(version) for version in living]
+
+
+def mask_range(masks):
+    """Return the mask of what all of these masks contain, and of what at least one contains."""
     common = masks[0]
     some = masks[0]
     for mask in masks:

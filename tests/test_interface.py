@@ -79,7 +79,42 @@ MODULES = {
         "two_price_cost": "(book, home, requests, plan, *, look=1, on=1, off=1)",
         "two_price_plan": "(book, home, requests, *, look=1, on=1, off=1)",
     },
+    "exact": {
+        "exact_cost": "(book, home, requests, *, look=1, toggle=1, limit=64)",
+        "exact_plan": "(book, home, requests, *, look=1, toggle=1, limit=64)",
+    },
+    "certificates": {
+        "counter_bound": "(start, votes, toggle, numbers)",
+        "Certificate": {"__init__": "(self, plan, numbers)"},
+        "certify": "(book, home, requests, plan, *, look=1, toggle=1)",
+        "certificate": "(book, home, requests, *, look=1, toggle=1)",
+        "check_certificate": "(book, home, requests, candidate, *, look=1, toggle=1)",
+    },
+    "ends": {
+        "EndTable": {
+            "__init__": "(self, book, home, *, look=1, toggle=1)",
+            "request": "(self, version, count=1)", "cost_to": "(self, version)", "least": "(self)",
+            "counters": "(self)", "ends": "(self)", "state": "(self)",
+            "resumed": "(book, state, *, look=1, toggle=1)",
+        },
+    },
+    "living": {
+        "living_ranges": "(book, living, events)",
+        "living_cost": "(book, home, living, events, plan, *, look=1, toggle=1)",
+        "living_plan": "(book, home, living, events, *, look=1, toggle=1)",
+    },
+    "keeper": {
+        "Keeper": {
+            "__init__": "(self, book, home, *, bound=2, look=1, toggle=1)",
+            "request": "(self, version, count=1)", "counters": "(self)", "state": "(self)",
+            "resumed": "(book, state, *, bound=2, look=1, toggle=1)",
+        },
+        "bound_clash": "(book, bound)", "side_sets": "(book, home, requests, bound)",
+        "bound_requests": "(book, first, second, bound)",
+    },
 }
+
+STATIC = ("resumed",)
 
 
 class InterfaceTest(unittest.TestCase):
@@ -101,7 +136,11 @@ class InterfaceTest(unittest.TestCase):
                     self.assertTrue(inspect.isclass(found))
                     self.assertEqual(found.__module__, module.__name__)
                     for method, signature in form.items():
-                        self.check_function(vars(found)[method], signature, module.__name__)
+                        defined = vars(found)[method]
+                        if method in STATIC:
+                            self.assertIsInstance(defined, staticmethod)
+                            defined = defined.__func__
+                        self.check_function(defined, signature, module.__name__)
 
     def test_steps_is_a_generator(self):
         self.assertTrue(inspect.isgeneratorfunction(importlib.import_module("livecopy.ways").steps))

@@ -155,6 +155,21 @@ class LanguageTest(unittest.TestCase):
             if name in BARRED_WORDS:
                 self.fail_at(path, node, f"{name} is barred")
 
+    def test_names_are_bound_once(self):
+        for path, text in sources().items():
+            tree = ast.parse(text)
+            imported = {alias.name for part in tree.body if isinstance(part, ast.ImportFrom) for alias in part.names}
+            defined = {part.name for part in tree.body if isinstance(part, (ast.FunctionDef, ast.ClassDef))}
+            self.assertEqual(imported & defined, set(), path.name)
+            used = {node.id for node in ast.walk(tree) if isinstance(node, ast.Name)}
+            self.assertLessEqual(imported, used, path.name)
+            for node in ast.walk(tree):
+                name = getattr(node, "arg", None)
+                if isinstance(node, ast.Name) and isinstance(node.ctx, ast.Store):
+                    name = node.id
+                if name in imported | defined and not isinstance(node, ast.keyword):
+                    self.fail_at(path, node, f"{name} has another meaning in this file")
+
     def test_identity(self):
         for path, node in nodes_of(ast.Compare):
             for operator, side in zip(node.ops, node.comparators):
