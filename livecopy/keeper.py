@@ -2,7 +2,7 @@
 
 from livecopy.ends import disagrees
 from livecopy.errors import BadBound, BadCount, BadState, BoundClash, NoClash
-from livecopy.masks import bit_of, has, numbers_of
+from livecopy.masks import bit_of, has, mask_of, numbers_of
 from livecopy.pricing import check_related
 from livecopy.requests import check_look, check_toggle, request_asks, spell_out
 from livecopy.versions import version_of
@@ -107,7 +107,7 @@ def side_sets(book, home, requests, bound):
             _followed(has(mask, number), counters[number - 1], bounds[number - 1], has(wanted, number), 1)
             for number in book]
         counters = [move[1] for move in moves]
-        mask = sum([bit_of(number) for number, move in enumerate(moves, start=1) if move[0]])
+        mask = mask_of([number for number, move in enumerate(moves, start=1) if move[0]])
         sets.append(numbers_of(mask))
     return sets
 

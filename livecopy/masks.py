@@ -35,6 +35,11 @@ def numbers_of(mask):
     return tuple(numbers)
 
 
+def mask_of(numbers):
+    """Return the mask of a list of different numbers."""
+    return sum([bit_of(number) for number in numbers])
+
+
 def toggle_order(start, goal):
     """Return the patches to toggle on the way from one version to another.
 

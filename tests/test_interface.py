@@ -112,6 +112,28 @@ MODULES = {
         "bound_clash": "(book, bound)", "side_sets": "(book, home, requests, bound)",
         "bound_requests": "(book, first, second, bound)",
     },
+    "rules": {
+        "rule_sides": "(rule, asked)", "rule_cost": "(rule, asked, *, look=1, toggle=1)",
+        "foe": "(rule, length)", "side_costs": "(rule, asked, *, look=1, toggle=1)",
+    },
+    "streams": {
+        "Stream": {
+            "__init__": "(self, book, home, *, look=1, toggle=1)",
+            "request": "(self, version, count=1)", "close": "(self)", "told": "(self)", "doubt": "(self)",
+        },
+    },
+    "orders": {
+        "beyond": "(book, home, counts)",
+        "order_cost": "(book, home, counts, *, look=1, toggle=1)",
+        "best_order": "(book, home, counts, *, look=1, toggle=1)",
+    },
+    "stories": {
+        "story_sides": "(book, home, looks, *, look=1, toggle=1)",
+        "story_through": "(book, home, looks, index, version, *, look=1, toggle=1)",
+    },
+    "programs": {
+        "Program": {"__init__": "(self, base, procedures, tasks)"},
+    },
 }
 
 STATIC = ("resumed",)
