@@ -1,7 +1,7 @@
 """A book: a base row, and the patches that were made for it."""
 
 from livecopy.errors import BadCell, BadSize, Conflict, DuplicateCell, EmptyPatch, NotAVersion, UnknownPatch
-from livecopy.masks import bit_of, has, least_of, numbers_of
+from livecopy.masks import bit_of, full_mask, has, least_of, numbers_of
 
 
 class Patch:
@@ -14,6 +14,12 @@ class Patch:
         # Later patches are added to these two: they may conflict with this one, or require it.
         self.foes = foes
         self.users = 0
+
+    def among(self, mask):
+        """Return the same patch as it is in a book with the patches of a mask alone."""
+        patch = Patch(self.writes, self.size, self.needs, self.foes & mask)
+        patch.users = self.users & mask
+        return patch
 
 
 class Book:
@@ -146,6 +152,15 @@ class Book:
         if not 1 <= number <= len(self._patches):
             raise UnknownPatch(number)
         return self._patches[number - 1]
+
+    def first_patches(self, many):
+        """Return a new book as this one was when it had so many patches."""
+        kept = full_mask(many)
+        book = Book(self._base)
+        book._patches = [patch.among(kept) for patch in self._patches[:many]]
+        book._numbers = self._numbers[:many]
+        book._writers = [mask & kept for mask in self._writers]
+        return book
 
     def later_relatives(self, number):
         """Return the ascending tuple of the later patches that are related to the patch."""

@@ -81,6 +81,12 @@ class Keeper:
         return keeper
 
 
+def check_bound(bound):
+    """Refuse a bound that is less than 1."""
+    if bound < 1:
+        raise BadBound(bound)
+
+
 def bound_clash(book, bound):
     """Return the least pair of related patches with different bounds, or None."""
     bounds = _bounds(book, bound)
@@ -147,12 +153,10 @@ def _followed(on, counter, most, asked, count):
 def _bounds(book, bound):
     """Return the list of the bounds of all patches, for one bound or a list of bounds."""
     if isinstance(bound, int):
-        if bound < 1:
-            raise BadBound(bound)
+        check_bound(bound)
         return [bound] * len(book)
     if len(bound) != len(book):
         raise BadBound(len(bound))
     for most in bound:
-        if most < 1:
-            raise BadBound(most)
+        check_bound(most)
     return list(bound)

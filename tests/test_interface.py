@@ -4,6 +4,16 @@ import importlib
 import inspect
 import unittest
 
+from livecopy.book import Book
+from livecopy.certificates import Certificate
+from livecopy.desk import Desk
+from livecopy.keeper import Keeper
+from livecopy.live import LiveCopy
+from livecopy.machine import Machine
+from livecopy.programs import Program
+from livecopy.runs import run_plain
+from livecopy.streams import Stream
+
 MODULES = {
     "book": {
         "Book": {
@@ -134,9 +144,48 @@ MODULES = {
     "programs": {
         "Program": {"__init__": "(self, base, procedures, tasks)"},
     },
+    "machine": {
+        "Machine": {
+            "__init__": "(self, program, number, book)", "next_read": "(self)", "step": "(self, value=0)",
+        },
+    },
+    "movers": {
+        "Mover": {"before": "(self, copy, version, index)", "after": "(self, copy, version, index)"},
+        "Follow": {"before": "(self, copy, version, index)", "after": "(self, copy, version, index)"},
+        "Kept": {
+            "__init__": "(self, bound, look=1, toggle=1)",
+            "before": "(self, copy, version, index)", "after": "(self, copy, version, index)",
+        },
+        "Planned": {
+            "__init__": "(self, homes)",
+            "before": "(self, copy, version, index)", "after": "(self, copy, version, index)",
+        },
+        "Toggles": {
+            "__init__": "(self, lists)",
+            "before": "(self, copy, version, index)", "after": "(self, copy, version, index)",
+        },
+    },
+    "runs": {
+        "Run": {},
+        "run_plain": "(program, turns=())",
+        "run_live": "(program, mover, turns=(), *, look=1, toggle=1)",
+    },
+    "programtext": {"program_text": "(program)", "parse_program": "(text)"},
+    "texts": {
+        "book_text": "(book)", "parse_book": "(text)", "requests_text": "(requests)", "parse_requests": "(text)",
+        "certificate_text": "(certificate)", "parse_certificate": "(text)",
+    },
+    "desk": {
+        "Desk": {
+            "__init__": "(self, base, *, bound=2, look=1, toggle=1)",
+            "do": "(self, deed)", "journal": "(self)", "undo": "(self)", "back_to": "(self, count)",
+            "names": "(self)", "row": "(self, name)", "live_row": "(self)", "text": "(self)",
+            "replay": "(base, deeds, *, bound=2, look=1, toggle=1)", "parse": "(text)",
+        },
+    },
 }
 
-STATIC = ("resumed",)
+STATIC = ("resumed", "replay", "parse")
 
 
 class InterfaceTest(unittest.TestCase):
@@ -163,6 +212,19 @@ class InterfaceTest(unittest.TestCase):
                             self.assertIsInstance(defined, staticmethod)
                             defined = defined.__func__
                         self.check_function(defined, signature, module.__name__)
+
+    def test_fields(self):
+        book = Book([0])
+        program = Program([0], [], [[]])
+        fields = (
+            (book, "cells"), (LiveCopy(book), "book home pins"), (Certificate([], []), "plan numbers"),
+            (Keeper(book, ()), "home cost"), (Stream(book, ()), "pending"), (program, "base procedures tasks"),
+            (Machine(program, 0, book), "status printed"), (run_plain(program), "outcomes requests book homes cost"),
+            (Desk([0]), "book home cost"))
+        for thing, names in fields:
+            for name in names.split():
+                with self.subTest(thing=thing, name=name):
+                    self.assertIn(name, vars(thing))
 
     def test_steps_is_a_generator(self):
         self.assertTrue(inspect.isgeneratorfunction(importlib.import_module("livecopy.ways").steps))

@@ -115,6 +115,7 @@ class LanguageTest(unittest.TestCase):
             self.assertTrue(node.level == 0 and node.module.startswith("livecopy."), path.name)
             defined = ast.parse((PACKAGE / f"{node.module.split('.')[1]}.py").read_text("utf-8")).body
             known = {part.name for part in defined if isinstance(part, (ast.FunctionDef, ast.ClassDef))}
+            known |= {part.targets[0].id for part in defined if isinstance(part, ast.Assign)}
             self.assertLessEqual(set(names), known, path.name)
 
     def test_module_level(self):
