@@ -32,7 +32,7 @@ def best_order(book, home, counts, *, look=1, toggle=1):
     crossed = last | mask_of([number for number, many in zip(book, sums) if look * many > 2 * toggle])
     # What lies behind a patch that is not crossed is served from the nearest version on this side of it.
     stands = [place ^ ((place ^ ask[0]) & crossed) for ask in asks]
-    order = sorted(range(len(asks)), key=lambda index: _branch(place, stands[index], last))
+    order = sorted(range(len(asks)), key=lambda at: _branch(place, stands[at], last))
     return [counts[index] for index in order], [numbers_of(stands[index]) for index in order]
 
 
@@ -40,15 +40,12 @@ def _checked(book, home, counts):
     """Return the mask of the home, and the asks of the requests for different versions."""
     tree_versions(book)
     place = book.version_mask(home)
-    asks = []
     seen = set()
     for index, (version, count) in enumerate(counts):
-        mask = book.find_mask(version)
-        if mask is None or count < 1 or mask in seen:
+        if version not in book or count < 1 or version in seen:
             raise BadRequest(index)
-        seen.add(mask)
-        asks.extend(request_asks(book, [(version, count)]))
-    return place, asks
+        seen.add(version)
+    return place, request_asks(book, counts)
 
 
 def _sums_beyond(book, place, asks):

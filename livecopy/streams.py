@@ -51,7 +51,6 @@ class Stream:
     def close(self):
         """End the stream, and return the list of the remaining entries."""
         self._refuse_if_closed()
-        self._grow()
         for number, counter in enumerate(self._counters, start=1):
             self._make_certain(number, counter > 0)
         self._closed = True
@@ -76,9 +75,9 @@ class Stream:
 
     def _grow(self):
         """Add the patches that were made since the last call: they were off at all requests."""
-        for _ in range(len(self._rows), len(self._book)):
-            self._counters.append(-self._toggle_price)
-            self._rows.append([False] * self._heard)
+        later = len(self._book) - len(self._rows)
+        self._counters.extend([-self._toggle_price] * later)
+        self._rows.extend([[False] * self._heard for _ in range(later)])
 
     def _make_certain(self, number, side):
         """Fill the row of a patch with this side, up to the last request that was heard."""

@@ -62,6 +62,18 @@ class OrderTest(unittest.TestCase):
         self.assertEqual(order_cost(book, (), counts, toggle=100), 10)
         self.assertEqual(order_cost(book, (), counts, toggle=0), 0)
 
+    def test_the_end_that_saves_most(self):
+        book = Book([0])
+        book.make_patch([(0, 1)])
+        book.make_patch([(0, 2)])
+        book.make_patch([(0, 3)], requires=(2,))
+        # To stay at (1,) saves 10, to stay at (2, 3) saves 6 + 6.
+        counts = [((1,), 1000), ((2, 3), 16)]
+        self.assertEqual(beyond(book, (), counts), [1000, 16, 16])
+        self.assertEqual(self.check_best(book, (), counts, 1, 10), 20 + 16 + 16 - 12)
+        # Now the patches behind (1,) are not worth a single toggle.
+        self.assertEqual(self.check_best(book, (), [((1,), 1000), ((2, 3), 9)], 1, 10), 20 + 9 + 9 - 10)
+
     def test_formula(self):
         for seed in range(200):
             book, source = random_tree(seed, 9)
@@ -104,6 +116,9 @@ class OrderTest(unittest.TestCase):
             refused(self, BadRequest, (1,), call, example_book(), (), [((1,), 1), ((1,), 0), ((2,), 1)])
             refused(self, BadRequest, (0,), call, example_book(), (), [((), 0)])
             refused(self, BadRequest, (2,), call, example_book(), (), [((1,), 1), ((3,), 2), ((1,), 3)])
+            refused(self, BadRequest, (1,), call, example_book(), (), [((1,), 1), ((2,), 1), ((1,), 1)])
+            refused(self, BadRequest, (1,), call, example_book(), (), [((1,), 1), ((3,), -1), ((1,), 1)])
+            refused(self, BadRequest, (1,), call, example_book(), (), [((1,), 1), ((1,), 1), ((2,), 1)])
         for call in (order_cost, best_order):
             refused(self, NotATree, (1, 4), call, book, (), [], look=0)
             refused(self, BadRequest, (0,), call, example_book(), (), bad, look=0, toggle=-1)

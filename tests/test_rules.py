@@ -77,6 +77,7 @@ class RuleTest(unittest.TestCase):
 
     def test_side_costs(self):
         self.assertEqual(side_costs(SLOW, [True, True, False, False, True], look=10, toggle=3), (23, 30, 9))
+        self.assertEqual(side_costs(SLOW, [True, True, False, False, True]), (3, 3, 3))
         self.assertEqual(side_costs(SLOW, []), (0, 0, 0))
         self.assertIsInstance(side_costs(SLOW, []), tuple)
 
