@@ -188,12 +188,9 @@ class Desk:
 def _read_prices(line):
     """Read the first line of the text of a desk, and return the bound and the prices."""
     line.expect("desk")
-    line.expect("bound")
-    bound = line.take_number()
-    line.expect("look")
-    look = line.take_number()
-    line.expect("toggle")
-    toggle = line.take_number()
+    bound = line.take_number_behind("bound")
+    look = line.take_number_behind("look")
+    toggle = line.take_number_behind("toggle")
     line.finish()
     try:
         Desk([0], bound=bound, look=look, toggle=toggle)

@@ -80,6 +80,11 @@ class Line:
         """Take a number."""
         return self._possible(read_number(self.take_word()))
 
+    def take_number_behind(self, word):
+        """Take this word and a number."""
+        self.expect(word)
+        return self.take_number()
+
     def take_operand(self):
         """Take a number or a name."""
         return self._possible(read_operand(self.take_word()))
@@ -87,6 +92,11 @@ class Line:
     def take_list(self):
         """Take a list of patch numbers, and return it as a tuple."""
         return self._possible(read_list(self.take_word()))
+
+    def take_list_behind(self, word):
+        """Take this word and a list of patch numbers."""
+        self.expect(word)
+        return self.take_list()
 
     def take_numbers(self):
         """Take all further words, which must be numbers."""

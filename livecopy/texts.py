@@ -36,8 +36,7 @@ def parse_requests(text):
     while not lines.is_over():
         line = lines.take()
         count = line.take_number()
-        line.expect("of")
-        version = line.take_list()
+        version = line.take_list_behind("of")
         line.finish()
         if count < 1:
             line.refuse()
@@ -79,14 +78,10 @@ def _patch_line(book, number):
 
 def _read_patch(line, book):
     """Read the line of the next patch of a book, and make it."""
-    line.expect("patch")
-    number = line.take_number()
-    line.expect("size")
-    size = line.take_number()
-    line.expect("requires")
-    requires = line.take_list()
-    line.expect("conflicts")
-    conflicts = line.take_list()
+    number = line.take_number_behind("patch")
+    size = line.take_number_behind("size")
+    requires = line.take_list_behind("requires")
+    conflicts = line.take_list_behind("conflicts")
     line.expect("writes")
     writes = line.take_writes()
     if number != len(book) + 1:

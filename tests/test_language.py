@@ -171,6 +171,24 @@ class LanguageTest(unittest.TestCase):
                 if name in imported | defined and not isinstance(node, ast.keyword):
                     self.fail_at(path, node, f"{name} has another meaning in this file")
 
+    def test_methods_and_attributes_have_different_names(self):
+        # Narrower than L18, which lets some names be both in different classes.
+        methods = {part.name for _, node in nodes_of(ast.ClassDef) for part in node.body if isinstance(part, ast.FunctionDef)}
+        for path, node in nodes_of(ast.Attribute):
+            if isinstance(node.ctx, ast.Store) and node.attr in methods:
+                self.fail_at(path, node, f"{node.attr} is a method and an attribute")
+
+    def test_captured_names_are_read_in_their_own_case(self):
+        for path, function in nodes_of(ast.FunctionDef):
+            captured = {node.name for node in ast.walk(function) if isinstance(node, ast.MatchAs) and node.name}
+            inside = [node for case in ast.walk(function) if isinstance(case, ast.match_case) for node in ast.walk(case)]
+            for node in ast.walk(function):
+                if isinstance(node, ast.arg) and node.arg in captured:
+                    self.fail_at(path, node, f"{node.arg} is captured and a parameter")
+                if isinstance(node, ast.Name) and node.id in captured:
+                    if isinstance(node.ctx, ast.Store) or not any(node is other for other in inside):
+                        self.fail_at(path, node, f"{node.id} is captured and has another meaning")
+
     def test_identity(self):
         for path, node in nodes_of(ast.Compare):
             for operator, side in zip(node.ops, node.comparators):
